@@ -1,0 +1,101 @@
+"""Those rules of the language subset that can be looked up mechanically, for each file of the package."""
+
+import ast
+import pathlib
+import re
+import unittest
+
+PACKAGE = pathlib.Path(__file__).resolve().parent.parent / "bestcodes"
+LIBRARY = {"heapq", "math", "itertools", "collections"}
+BUILTINS = set("""len range enumerate zip min max sum abs sorted reversed int str bool list tuple dict set isinstance
+ord repr any all divmod pow iter next map super""".split())
+NODES = (ast.Global, ast.AsyncFunctionDef, ast.Await, ast.AsyncFor, ast.AsyncWith, ast.Import, ast.Div)
+METHODS = {"__init__", "__eq__", "__repr__", "__str__", "__len__"}
+DECORATORS = {"property", "classmethod", "staticmethod"}
+BARRED = {"register", "mro", "elements", "open", "input", "law", "type", "eval", "exec", "id", "hash", "vars", "dir",
+          "globals", "locals", "help", "format", "frozenset", "bytes", "chr", "print", "float"}
+INTERFACE = {
+    "errors.py": "CodeError BadCode BadValue BadText TooMany Unlike NotKept NothingLeft Busy",
+    "codes.py": "Code",
+    "making.py": "table runs pairs packed distinct summed times translated",
+}
+LISTED = {"Code": "__init__ __eq__ __len__ __str__ length far read"}
+
+
+def sources():
+    return [(path, path.read_text(encoding="ascii")) for path in sorted(PACKAGE.rglob("*.py"))]
+
+
+def nodes():
+    for path, text in sources():
+        for node in ast.walk(ast.parse(text)):
+            yield path.name, node
+
+
+class Language(unittest.TestCase):
+
+    def test_files(self):
+        for path in PACKAGE.rglob("*"):
+            if "__pycache__" not in path.parts:
+                self.assertRegex(path.name, r"^[a-z_0-9]+\.py$")
+        self.assertTrue((PACKAGE / "__init__.py").exists())
+
+    def test_sizes_and_characters(self):
+        for path, text in sources():
+            lines = text.split("\n")
+            self.assertLess(len(lines) - 1, 400, path)
+            self.assertLessEqual(max(map(len, lines)), 120, path)
+            self.assertIsNone(re.search(r"[^ -~\n]", text), path)
+            self.assertNotIn("%", text.replace(" % ", ""), path)
+
+    def test_functions(self):
+        for name, node in nodes():
+            if isinstance(node, ast.FunctionDef):
+                self.assertLessEqual(node.end_lineno - node.lineno + 1, 40, (name, node.name))
+                for decorator in node.decorator_list:
+                    told = decorator.id if isinstance(decorator, ast.Name) else decorator.attr
+                    self.assertIn(told, DECORATORS | {"setter"}, (name, node.name))
+                if node.name.startswith("__"):
+                    self.assertIn(node.name, METHODS, name)
+
+    def test_nodes(self):
+        for name, node in nodes():
+            self.assertNotIsInstance(node, NODES, (name, getattr(node, "lineno", None)))
+            if isinstance(node, ast.Constant):
+                self.assertNotIsInstance(node.value, float, name)
+
+    def test_imports(self):
+        for name, node in nodes():
+            if isinstance(node, ast.ImportFrom):
+                self.assertEqual(node.level, 0, name)
+                top, rest = (node.module + ".").split(".", 1)
+                self.assertTrue(top in LIBRARY or top == "bestcodes" and rest, (name, node.module))
+                self.assertTrue(all(one.asname is None and one.name != "*" for one in node.names), name)
+
+    def test_names(self):
+        for name, node in nodes():
+            told = getattr(node, "id", getattr(node, "arg", None))
+            if isinstance(node, (ast.Name, ast.arg)):
+                self.assertNotIn(told, BARRED, (name, node.lineno))
+                if isinstance(getattr(node, "ctx", None), ast.Store) or isinstance(node, ast.arg):
+                    self.assertNotIn(told, BUILTINS, (name, node.lineno))
+
+    def test_module_level(self):
+        for path, text in sources():
+            for node in ast.parse(text).body:
+                kinds = (ast.Expr, ast.ImportFrom, ast.FunctionDef, ast.ClassDef, ast.Assign)
+                self.assertIsInstance(node, kinds, path)
+
+    def test_the_interface_stands_where_it_is_listed(self):
+        for name, told in INTERFACE.items():
+            body = ast.parse((PACKAGE / name).read_text()).body
+            defined = {node.name: node for node in body if isinstance(node, (ast.FunctionDef, ast.ClassDef))}
+            for one in told.split():
+                self.assertIn(one, defined, name)
+                if one in LISTED:
+                    own = {node.name for node in defined[one].body if isinstance(node, ast.FunctionDef)}
+                    self.assertLessEqual(set(LISTED[one].split()), own)
+
+
+if __name__ == "__main__":
+    unittest.main()

@@ -1,4 +1,4 @@
-"""What codes and made codes share: machines from memories, letters, numbers in texts."""
+"""What codes, shapes and joint machines share: states from memories, letters, numbers in texts."""
 
 from bestcodes.errors import BadText, TooMany
 
@@ -6,10 +6,10 @@ MOST_STATES = 40
 MOST_DIGITS = 4000
 
 
-def explored(values, start, step):
-    """The memories that columns leave, and for each the pairs (goal, bits) of its values.
+def explored(values, start, step, most):
+    """The memories that columns leave, and for each the numbers of those behind its values.
 
-    step(memory, value) tells the memory behind the value and the bits paid for it.
+    step(memory, value) tells the memory behind the value, None if it leads nowhere.
     Memories are found in the order of the first columns that leave them, since
     each is asked for its values, in order, before any that was found later.
     """
@@ -19,13 +19,13 @@ def explored(values, start, step):
     while len(rows) < len(memories):
         row = []
         for value in values:
-            memory, bits = step(memories[len(rows)], value)
-            if memory not in numbers:
+            memory = step(memories[len(rows)], value)
+            if memory is not None and memory not in numbers:
                 numbers[memory] = len(memories)
                 memories.append(memory)
-            row.append((numbers[memory], bits))
+            row.append(numbers.get(memory))
         # looked at before the next row, so that a large machine is never built
-        if len(memories) > MOST_STATES:
+        if len(memories) > most:
             raise TooMany("states")
         rows.append(row)
     return memories, rows

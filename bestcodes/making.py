@@ -1,7 +1,7 @@
 """Made codes. Each is told by a memory: what a column leaves behind, and what that pays."""
 
 from bestcodes.codes import Code
-from bestcodes.common import explored, strange_place
+from bestcodes.common import MOST_STATES, explored, strange_place
 from bestcodes.errors import BadValue, Unlike
 
 
@@ -11,7 +11,14 @@ def made(values, start, step, end):
     step(memory, value) tells the memory behind the value and the bits paid for it,
     end(memory) the bits paid at the end.
     """
-    memories, rows = explored(values, start, step)
+
+    def goal(memory, value):
+        return step(memory, value)[0]
+
+    memories, goals = explored(values, start, goal, MOST_STATES)
+    rows = []
+    for memory, numbers in zip(memories, goals):
+        rows.append([(number, step(memory, value)[1]) for value, number in zip(values, numbers)])
     return Code(values, rows, [end(memory) for memory in memories])
 
 

@@ -1,6 +1,9 @@
-"""What the tests share: all short columns, and the rules that a made code has to keep."""
+"""What the tests share: all short columns, machines made anyhow, and what the document says of them."""
 
 from itertools import product
+
+from bestcodes.codes import Code
+from bestcodes.shapes import Shape
 
 
 def columns(values, most):
@@ -27,6 +30,14 @@ def paid(code, column):
     return total + code.ends[state]
 
 
+def gone(shape, column):
+    """The state of a shape behind a column, by the rows alone."""
+    state = 0
+    for letter in column:
+        state = shape.rows[state][shape.letters.index(letter)]
+    return state
+
+
 def blocks(column, size):
     """The column cut into blocks."""
     return [column[at:at + size] for at in range(0, len(column), size)]
@@ -36,6 +47,42 @@ def ring(many, values="a", bits=1, end=0):
     """(rows, ends) of states that lead round in a ring by each value."""
     rows = [[((state + 1) % many, bits)] * len(values) for state in range(many)]
     return rows, [end] * many
+
+
+def ring_code(many, values="a", bits=1, end=0):
+    """A code with states that lead round in a ring."""
+    return Code(values, *ring(many, values, bits, end))
+
+
+def ring_shape(many, values="a", good=(0,)):
+    """A shape with states that lead round in a ring."""
+    return Shape(values, [[(state + 1) % many] * len(values) for state in range(many)], good)
+
+
+def finite_shape(values, words):
+    """The shape of just these columns, by the rows of a tree."""
+    places = sorted({word[:many] for word in words for many in range(len(word) + 1)} | {""},
+                    key=lambda word: (len(word), word))
+    dead = len(places)
+    rows = [[places.index(word + value) if word + value in places else dead for value in values]
+            for word in places]
+    return Shape(values, rows + [[dead] * len(values)], [places.index(word) for word in words])
+
+
+def any_code(draw, values, many, most=9):
+    """A code made anyhow."""
+    rows = [[(draw.randrange(many), draw.randint(0, most)) for _ in values] for _ in range(many)]
+    return Code(values, rows, [draw.randint(0, most) for _ in range(many)])
+
+
+def any_shape(draw, values, many):
+    """A shape made anyhow, often with a state that is not good and is never left."""
+    rows = [[draw.randrange(many) for _ in values] for _ in range(many)]
+    good = [state for state in range(many) if draw.random() < 0.6]
+    if draw.random() < 0.5 and many > 1:
+        rows[many - 1] = [many - 1] * len(values)
+        good = [state for state in good if state != many - 1]
+    return Shape(values, rows, good)
 
 
 def check_made(test, code, values, most, length, memory):
@@ -51,3 +98,17 @@ def check_made(test, code, values, most, length, memory):
         test.assertEqual(paid(code, column), length(column), column)
     test.assertEqual(len(code), len(numbers))
     test.assertEqual(len(code.ends), len(numbers))
+
+
+def check_shape(test, shape, values, most, has, memory):
+    """Check a made shape against what it has and the memory of each short column."""
+    test.assertIsInstance(shape, Shape)
+    test.assertEqual(shape.letters, values)
+    numbers = {}
+    for column in columns(values, most):
+        left = memory(column)
+        numbers.setdefault(left, len(numbers))
+        test.assertEqual(gone(shape, column), numbers[left], column)
+        test.assertIs(shape.has(column), bool(has(column)), column)
+        test.assertEqual(numbers[left] in shape.good, bool(has(column)), column)
+    test.assertEqual(len(shape), len(numbers))

@@ -18,8 +18,17 @@ INTERFACE = {
     "errors.py": "CodeError BadCode BadValue BadText TooMany Unlike NotKept NothingLeft Busy",
     "codes.py": "Code",
     "making.py": "table runs pairs packed distinct summed times translated",
+    "shapes.py": "Shape every rising changes both without",
+    "joint.py": "Joint",
+    "pairwise.py": "Most Rises longer is_rises apart",
 }
-LISTED = {"Code": "__init__ __eq__ __len__ __str__ length far read"}
+LISTED = {
+    "Code": "__init__ __eq__ __len__ __str__ length far read",
+    "Shape": "__init__ __eq__ __len__ __str__ has read",
+    "Joint": "__init__ chains",
+    "Most": "__init__",
+    "Rises": "__init__",
+}
 
 
 def sources():
@@ -79,6 +88,30 @@ class Language(unittest.TestCase):
                 self.assertNotIn(told, BARRED, (name, node.lineno))
                 if isinstance(getattr(node, "ctx", None), ast.Store) or isinstance(node, ast.arg):
                     self.assertNotIn(told, BUILTINS, (name, node.lineno))
+
+    def test_names_of_imports_and_classes_mean_nothing_else(self):
+        for path, text in sources():
+            tree = ast.parse(text)
+            taken = {one.name for node in tree.body if isinstance(node, ast.ImportFrom) for one in node.names}
+            taken |= {node.name for node in tree.body if isinstance(node, ast.ClassDef)}
+            for node in ast.walk(tree):
+                if isinstance(node, ast.arg):
+                    self.assertNotIn(node.arg, taken, path)
+                if isinstance(node, ast.Name) and isinstance(node.ctx, ast.Store):
+                    self.assertNotIn(node.id, taken, path)
+
+    def test_no_two_files_import_from_each_other(self):
+        ways = {path.stem: set() for path, _ in sources()}
+        for path, text in sources():
+            for node in ast.parse(text).body:
+                if isinstance(node, ast.ImportFrom) and node.module.startswith("bestcodes."):
+                    ways[path.stem].add(node.module.split(".")[1])
+        while ways:
+            # some file imports from none that is left
+            last = [name for name, others in ways.items() if not others & set(ways)]
+            self.assertNotEqual(last, [], ways)
+            for name in last:
+                del ways[name]
 
     def test_module_level(self):
         for path, text in sources():

@@ -19,10 +19,10 @@ class Joint:
         self.states = tuple(states)
         self.arrows = tuple([arrows_of(shape.letters, row) for row in rows])
         self.good = tuple([number for number, state in enumerate(states) if state[0] in shape.good])
-        reach = reach_of([[goal for value, goal in row] for row in self.arrows])
-        self.laps = laps_of(reach)
+        self.reach = reach_of([[goal for value, goal in row] for row in self.arrows])
+        self.laps = laps_of(self.reach)
         # None if there are too many, which is no error before they are asked
-        self.chains_or_none = chains_of(reach, self.laps)
+        self.chains_or_none = chains_of(self.reach, self.laps)
 
     @property
     def chains(self):

@@ -6,16 +6,38 @@ None if it is not good.
 """
 
 
-def weighed_steps(joint, weights):
-    """The steps of the joint machine if a step gains the bits of each code times its weight."""
+def paid_steps(joint):
+    """The steps of the joint machine, each with a tuple of the bits of the codes as its gain."""
     steps = []
     for state, row in zip(joint.states, joint.arrows):
         told = {}
         for value, goal in row:
             bits = [code.run(place, value)[1] for code, place in zip(joint.codes, state[1:])]
-            told[value] = (goal, weighed(bits, weights))
+            told[value] = (goal, tuple(bits))
         steps.append(told)
     return steps
+
+
+def weighed_steps(joint, weights):
+    """The steps of the joint machine if a step gains the bits of each code times its weight."""
+    return regained(paid_steps(joint), lambda bits: weighed(bits, weights))
+
+
+def regained(steps, worth):
+    """The steps if each gains worth(gain) in place of its gain."""
+    return [{value: (goal, worth(gain)) for value, (goal, gain) in row.items()} for row in steps]
+
+
+def leaned(steps, times, less):
+    """The steps if each gains so many times as much, less a number."""
+    return regained(steps, lambda gain: times * gain - less)
+
+
+def inner_steps(steps, kept):
+    """The steps between the states that are kept, which are told by their places among these."""
+    places = {state: place for place, state in enumerate(kept)}
+    return [{value: (places[goal], gain) for value, (goal, gain) in steps[state].items() if goal in places}
+            for state in kept]
 
 
 def weighed_ends(joint, weights):
@@ -42,6 +64,24 @@ def walked(steps, state, word):
         state, gain = steps[state][letter]
         total += gain
     return state, total
+
+
+def place_behind(steps, state, word):
+    """The state behind a word; None if it leads nowhere."""
+    for letter in word:
+        if letter not in steps[state]:
+            return None
+        state = steps[state][letter][0]
+    return state
+
+
+def paid_along(paid, state, word, many):
+    """The bits that each of so many codes pays along a word that leads somewhere."""
+    totals = [0 for _ in range(many)]
+    for letter in word:
+        state, bits = paid[state][letter]
+        totals = [total + some for total, some in zip(totals, bits)]
+    return totals
 
 
 def finished(steps, ends, state, word):
@@ -76,36 +116,62 @@ def gaining_ring(steps):
     """
     heights = [0 for row in steps]
     ahead = [None for row in steps]
-    raised = None
-    # each round raises states to what is gained on the way to them, wherever it begins; as
-    # many rounds as there are states come to an end, unless some ring raises for ever
-    for _ in range(len(steps)):
-        raised = None
-        for state, row in enumerate(steps):
-            for value, (goal, gain) in row.items():
-                if heights[state] + gain > heights[goal]:
-                    heights[goal] = heights[state] + gain
-                    ahead[goal] = (state, value)
-                    raised = goal
-        if raised is None:
-            return None
-    return ring_behind(ahead, raised)
+    # each round raises states to what is gained on the way to them, wherever it begins; if the
+    # ways ahead ever close to a ring, it gains, and so they do if the rounds do not come to an end
+    ring = None
+    while ring is None and raised(steps, heights, ahead):
+        ring = closed_ring(ahead)
+    return ring
 
 
-def ring_behind(ahead, state):
-    """The ring that is met if one goes back from a state again and again.
+def raised(steps, heights, ahead):
+    """Whether a round raises any height; ahead gets the step by which each was raised last."""
+    higher = False
+    for state, row in enumerate(steps):
+        for value, (goal, gain) in row.items():
+            if heights[state] + gain > heights[goal]:
+                heights[goal] = heights[state] + gain
+                ahead[goal] = (state, value)
+                higher = True
+    return higher
 
-    ahead has for each state the pair of the state ahead and the value that leads here.
+
+def closed_ring(ahead):
+    """A ring (state, word) that is met if one goes back again and again; None if there is none.
+
+    ahead has for each state the pair of the state ahead and the value that leads here, or None.
     """
-    # so many steps back lie surely on the ring
-    for _ in range(len(ahead)):
-        state = ahead[state][0]
-    begin = state
+    begun = {}
+    for start in range(len(ahead)):
+        state = start
+        while state not in begun:
+            begun[state] = start
+            if ahead[state] is not None:
+                state = ahead[state][0]
+        if ahead[state] is not None and begun[state] == start:
+            return state, ring_behind(ahead, state)
+    return None
+
+
+def ring_behind(ahead, begin):
+    """The word of the ring on which a state lies, if one goes back from it."""
     state, word = ahead[begin]
     while state != begin:
         state, value = ahead[state]
         word = value + word
-    return begin, word
+    return word
+
+
+def raised_heights(steps, start):
+    """The least heights, none below these to start with, that no step gains more than it climbs.
+
+    No ring gains anything.
+    """
+    heights = list(start)
+    ahead = [None for row in steps]
+    while raised(steps, heights, ahead):
+        pass
+    return heights
 
 
 def greatest(steps, ends):

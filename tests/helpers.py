@@ -69,6 +69,24 @@ def finite_shape(values, words):
     return Shape(values, rows + [[dead] * len(values)], [places.index(word) for word in words])
 
 
+def layers(many, extra=False, lone=False):
+    """A shape with two states that have laps in each layer, so that the chains double with each layer.
+
+    The state 0 has no lap. With extra, its value a leads to a lap of its own, one chain more.
+    With lone, no state has a lap but the last ones.
+    """
+    dead = 2 * many + 1
+    rows = [[dead + 1 if extra else dead, 1, 2]]
+    for layer in range(1, many + 1):
+        for state in (2 * layer - 1, 2 * layer):
+            if layer == many:
+                rows.append([state, dead, dead])
+            else:
+                rows.append([dead if lone else state, 2 * layer + 1, 2 * layer + 2])
+    rows.append([dead] * 3)
+    return Shape("abc", rows + [[dead + 1, dead, dead]], [*range(dead), dead + 1])
+
+
 def any_code(draw, values, many, most=9):
     """A code made anyhow."""
     rows = [[(draw.randrange(many), draw.randint(0, most)) for _ in values] for _ in range(many)]
@@ -112,3 +130,46 @@ def check_shape(test, shape, values, most, has, memory):
         test.assertIs(shape.has(column), bool(has(column)), column)
         test.assertEqual(numbers[left] in shape.good, bool(has(column)), column)
     test.assertEqual(len(shape), len(numbers))
+
+
+def sparse_shape(draw, values, many):
+    """A shape whose values lead on, seldom back: many laps and many chains."""
+    rows = [[draw.choice((state, min(many - 1, state + draw.randint(1, 3)))) for _ in values]
+            for state in range(many)]
+    if draw.random() < 0.3:
+        rows[many - 1] = [draw.randrange(many) for _ in values]
+    return Shape(values, rows, [state for state in range(many) if draw.random() < 0.5])
+
+
+def balanced_codes(draw, values, many, count, slips=0):
+    """So many codes and a base behind them that a mix of the codes comes to, but for bounded bits.
+
+    With slips, some values of the base pay one bit less or more.
+    """
+    rows = [[draw.randrange(many) for _ in values] for _ in range(many)]
+    weights = [draw.randint(0, 3) for _ in range(count - 1)] + [draw.randint(1, 3)]
+    bits = [[[draw.randint(0, 9) for _ in values] for _ in rows] for _ in weights]
+    lifts = [draw.randint(0, 5) for _ in rows]
+    codes = []
+    for told in bits:
+        codes.append(Code(values, [[(goal, sum(weights) * (some + 6)) for goal, some in zip(*pair)]
+                                   for pair in zip(rows, told)], [draw.randint(0, 9) for _ in rows]))
+    base = []
+    for state, row in enumerate(rows):
+        mean = [sum(weight * (told[state][at] + 6) for weight, told in zip(weights, bits)) for at in range(len(values))]
+        base.append([(goal, some + lifts[goal] - lifts[state]) for goal, some in zip(row, mean)])
+    for _ in range(slips):
+        state, at = draw.randrange(many), draw.randrange(len(values))
+        base[state][at] = (base[state][at][0], base[state][at][1] + draw.choice((-1, 1)))
+    return [*codes, Code(values, base, [draw.randint(0, 9) for _ in rows])]
+
+
+def flat(values, bits, end=0):
+    """The code in which each value pays the same."""
+    return Code(values, [[(0, bits)] * len(values)], [end])
+
+
+def prices(**bits):
+    """The code in which each value pays its bits."""
+    values = "".join(sorted(bits))
+    return Code(values, [[(0, bits[value]) for value in values]], [0])

@@ -9,93 +9,12 @@ from bestcodes.errors import TooMany, Unlike
 from bestcodes.joint import Joint
 from bestcodes.making import packed, runs, table
 from bestcodes.shapes import Shape, changes, every, rising, without
-from helpers import any_code, any_shape, columns, finite_shape, gone, ring_code, ring_shape, walked
+from helpers import any_code, any_shape, columns, finite_shape, layers, ring_code, ring_shape
+from looks import Look, told_chains, told_laps, told_states
 
 
 def plain(values):
     return table(values, {value: 1 for value in values})
-
-
-def layers(many, extra=False, lone=False):
-    """A shape with two states that have laps in each layer, so that the chains double with each layer.
-
-    The state 0 has no lap. With extra, its value a leads to a lap of its own, one chain more.
-    With lone, no state has a lap but the last ones.
-    """
-    dead = 2 * many + 1
-    rows = [[dead + 1 if extra else dead, 1, 2]]
-    for layer in range(1, many + 1):
-        for state in (2 * layer - 1, 2 * layer):
-            if layer == many:
-                rows.append([state, dead, dead])
-            else:
-                rows.append([dead if lone else state, 2 * layer + 1, 2 * layer + 2])
-    rows.append([dead] * 3)
-    return Shape("abc", rows + [[dead + 1, dead, dead]], [*range(dead), dead + 1])
-
-
-def alive(shape):
-    """The states of a shape from which a good one can be reached, from all words of all lengths."""
-    found = set(shape.good)
-    while True:
-        more = found | {state for state, row in enumerate(shape.rows) if found & set(row)}
-        if more == found:
-            return found
-        found = more
-
-
-def told_states(codes, shape):
-    """(states, arrows, good) of the joint machine by its words: the first columns, one by one."""
-    hopes = alive(shape)
-    start = (0,) * (len(codes) + 1)
-    numbers, frontier = ({start: 0}, [""]) if 0 in hopes else ({}, [])
-    arrows = []
-    while frontier:
-        column = frontier.pop(0)
-        told = []
-        for value in shape.letters:
-            goal = (gone(shape, column + value), *[walked(code, column + value) for code in codes])
-            if goal[0] in hopes:
-                if goal not in numbers:
-                    numbers[goal] = len(numbers)
-                    frontier.append(column + value)
-                told.append((value, numbers[goal]))
-        arrows.append(tuple(told))
-    good = tuple(number for row, number in numbers.items() if row[0] in shape.good)
-    return tuple(numbers), tuple(arrows), good
-
-
-def told_laps(arrows):
-    """The laps, from what can be reached."""
-    reach = []
-    for state in range(len(arrows)):
-        met, waiting = set(), [state]
-        while waiting:
-            for _, goal in arrows[waiting.pop()]:
-                if goal not in met:
-                    met.add(goal)
-                    waiting.append(goal)
-        reach.append(met)
-    laps = {tuple(goal for goal in sorted(met) if state in reach[goal]) for state, met in enumerate(reach)}
-    return tuple(sorted(lap for lap in laps if lap))
-
-
-def told_chains(joint):
-    """The chains, from the sets of laps that runs meet, all of them."""
-    lap_of = {state: at for at, lap in enumerate(joint.laps) for state in lap}
-    if not joint.states:
-        return ()
-    start = (0, frozenset(lap_of[state] for state in (0,) if state in lap_of))
-    met, waiting = {start}, [start]
-    while waiting:
-        state, laps = waiting.pop()
-        for _, goal in joint.arrows[state]:
-            told = (goal, laps | ({lap_of[goal]} if goal in lap_of else set()))
-            if told not in met:
-                met.add(told)
-                waiting.append(told)
-    ended = {laps for state, laps in met if state in joint.good}
-    return tuple(sorted(tuple(sorted(laps)) for laps in ended if not any(laps < other for other in ended)))
 
 
 class Attributes(unittest.TestCase):
@@ -137,7 +56,7 @@ class States(unittest.TestCase):
         joint = Joint(codes, shape)
         self.assertEqual((joint.states, joint.arrows, joint.good), told_states(codes, shape))
         self.assertEqual(joint.laps, told_laps(joint.arrows))
-        self.assertEqual(joint.chains, told_chains(joint))
+        self.assertEqual(joint.chains, told_chains(joint.states, joint.arrows, joint.good, joint.laps))
         return joint
 
     def test_machines_made_anyhow(self):
@@ -272,7 +191,7 @@ class Chains(unittest.TestCase):
     def test_sixty_four_and_more(self):
         joint = Joint([plain("abc")], layers(6))
         self.assertEqual((len(joint.laps), len(joint.chains)), (12, 64))
-        self.assertEqual(joint.chains, told_chains(joint))
+        self.assertEqual(joint.chains, told_chains(joint.states, joint.arrows, joint.good, joint.laps))
         self.assertEqual((joint.chains[0], joint.chains[1], joint.chains[-1]),
                          ((0, 2, 4, 6, 8, 10), (0, 2, 4, 6, 8, 11), (1, 3, 5, 7, 9, 11)))
         for shape in (layers(6, True), layers(7), layers(28)):
@@ -282,7 +201,7 @@ class Chains(unittest.TestCase):
                 with self.assertRaises(TooMany) as told:
                     len(joint.chains)
                 self.assertEqual(told.exception.what, "chains")
-        self.assertEqual(len(told_chains(Joint([plain("abc")], layers(6, True)))), 65)
+        self.assertEqual(len(Look([plain("abc")], layers(6, True)).chains), 65)
 
     def test_many_ways_but_few_chains(self):
         # only states without laps lie between, so that all ways meet the same

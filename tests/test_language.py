@@ -21,6 +21,9 @@ INTERFACE = {
     "shapes.py": "Shape every rising changes both without",
     "joint.py": "Joint",
     "pairwise.py": "Most Rises longer is_rises apart",
+    "several.py": "Never Grows best is_best bound loss as_good needless least_lots",
+    "rates.py": "Rate rate is_rate",
+    "desks.py": "Desk",
 }
 LISTED = {
     "Code": "__init__ __eq__ __len__ __str__ length far read",
@@ -28,7 +31,12 @@ LISTED = {
     "Joint": "__init__ chains",
     "Most": "__init__",
     "Rises": "__init__",
+    "Never": "__init__",
+    "Grows": "__init__",
+    "Rate": "__init__",
+    "Desk": "__init__ put drop shape_to keep free undo redo tried",
 }
+LIBRARY_NAMES = {"math": {"gcd", "lcm", "isqrt", "comb", "perm", "factorial"}}
 
 
 def sources():
@@ -112,6 +120,67 @@ class Language(unittest.TestCase):
             self.assertNotEqual(last, [], ways)
             for name in last:
                 del ways[name]
+
+    def test_names_of_the_library_are_only_called(self):
+        for path, text in sources():
+            tree = ast.parse(text)
+            taken = set()
+            for node in tree.body:
+                if isinstance(node, ast.ImportFrom) and not node.module.startswith("bestcodes."):
+                    self.assertLessEqual({one.name for one in node.names}, LIBRARY_NAMES.get(node.module, set()), path)
+                    taken |= {one.name for one in node.names}
+            called = [node.func for node in ast.walk(tree) if isinstance(node, ast.Call) and not node.keywords]
+            for node in ast.walk(tree):
+                if isinstance(node, ast.Name) and node.id in taken:
+                    self.assertTrue(any(node is one for one in called), (path, node.lineno))
+
+    def test_stars_in_calls_stand_before_names(self):
+        for name, node in nodes():
+            if isinstance(node, ast.Call):
+                for one in node.args:
+                    if isinstance(one, ast.Starred):
+                        self.assertIsInstance(one.value, (ast.Name, ast.Attribute), (name, node.lineno))
+
+    def test_finally_only_assigns(self):
+        for name, node in nodes():
+            if isinstance(node, ast.Try):
+                for one in node.finalbody:
+                    self.assertIsInstance(one, ast.Assign, name)
+                    for part in ast.walk(one):
+                        kinds = (ast.Assign, ast.Tuple, ast.Name, ast.Attribute, ast.Load, ast.Store)
+                        self.assertIsInstance(part, kinds, name)
+
+    def test_handlers_name_own_errors(self):
+        own = set(INTERFACE["errors.py"].split())
+        for name, node in nodes():
+            if isinstance(node, ast.ExceptHandler):
+                self.assertIn(node.type.id, own | {"KeyError"}, name)
+
+    def test_what_is_read_is_assigned(self):
+        # each attribute that is read is a method, or some class assigns it
+        known = {"append", "extend", "pop", "find", "get", "index", "values", "split", "join", "isascii", "isdigit",
+                 "zfill", "items", "bit_length", "add"}
+        for _, node in nodes():
+            if isinstance(node, ast.FunctionDef):
+                known.add(node.name)
+            if isinstance(node, ast.Attribute) and isinstance(node.ctx, ast.Store):
+                known.add(node.attr)
+        for name, node in nodes():
+            if isinstance(node, ast.Attribute):
+                self.assertIn(node.attr, known, (name, node.lineno))
+
+    def test_no_name_is_a_method_and_an_attribute(self):
+        methods, attributes = set(), set()
+        for _, node in nodes():
+            if isinstance(node, ast.ClassDef):
+                methods |= {one.name for one in node.body if isinstance(one, ast.FunctionDef)}
+            if isinstance(node, ast.Attribute) and isinstance(node.ctx, ast.Store):
+                attributes.add(node.attr)
+        self.assertEqual(methods & attributes, set())
+
+    def test_any_and_their_like_take_lists(self):
+        for name, node in nodes():
+            self.assertNotIsInstance(node, ast.GeneratorExp, (name, getattr(node, "lineno", None)))
 
     def test_module_level(self):
         for path, text in sources():
